@@ -1,0 +1,1 @@
+"""Mowfloor: floors gone over by mowers."""

@@ -1,0 +1,91 @@
+"""Floors and things that the tests share."""
+
+import random
+from collections import namedtuple
+
+
+class Thorny:
+    """An object that fails whenever it is asked for anything but its kind."""
+
+    def fail(self, *args):
+        raise RuntimeError("asked")
+
+    __eq__ = __ne__ = __lt__ = __le__ = __gt__ = __ge__ = fail
+    __hash__ = __len__ = __iter__ = __bool__ = __getitem__ = __contains__ = fail
+    __add__ = __radd__ = __sub__ = __int__ = __index__ = __str__ = __repr__ = fail
+
+
+Point = namedtuple("Point", "row column")
+
+
+def nested(depth, wrap):
+    thing = wrap(0)
+    for _ in range(depth - 1):
+        thing = wrap(thing)
+    return thing
+
+
+def junk():
+    """Things that are no floor, no field, no walk, no paper and no text of a floor."""
+    return [
+        None, True, False, 0, 1, -1, 10 ** 40, 0.0, 1.5, float("nan"), 1j,
+        "", "text", "((0, 0),)", "down", b"", b"ab", bytearray(b"ab"),
+        [], [(0, 0)], [[0, 0]], {}, {(0, 0): True}, {0: 0}, set(), {(0, 0)}, frozenset([(0, 0)]),
+        range(2), iter(()), iter(((0, 0),)), (part for part in ((0, 0),)),
+        object(), Thorny(), int, tuple, len, ValueError("no"), NotImplemented, Ellipsis,
+        (None,), (True,), (0,), (1.0,), ("",), ("ab",), ([],), ({},), (set(),), (object(),), (Thorny(),), ((),),
+        (0, 0), (0, 1), ("00",), (b"00",), (range(2),), ({0: 0, 1: 1},),
+        ((0,),), ((0, 0, 0),), ((0, 0), (0,)), ((0, 0), (0, 1, 2)), ((0, 0), None), ((0, 0), Thorny()),
+        ([0, 0],), ((0, 0), [0, 1]), [(0, 0), (0, 1)], ((0, 0.0),), ((0.0, 0),), (("0", "0"),),
+        ((True, 0),), ((0, True),), ((False, 0),), ((0, False),), ((None, 0),), ((0, None),),
+        (([], 0),), ((0, {}),), ((Thorny(), 0),), ((0, Thorny()),), ((0, (0,)),), (((0, 0),),),
+        ((0, 0), (0, 0)), ((0, 1), (0, 0)), ((1, 0), (0, 0)), ((0, -1),), ((-1, 0),), ((10 ** 40, 0),), ((0, 10 ** 40),),
+        nested(60, lambda thing: (thing,)), nested(60, lambda thing: [thing]), nested(60, lambda thing: {0: thing}),
+        nested(60, lambda thing: (thing, thing)[:1]), (nested(59, lambda thing: (thing,)), 0),
+        ((nested(58, lambda thing: (thing,)), 0),), ((0, nested(58, lambda thing: [thing])),),
+    ]
+
+
+def rectangle(rows, columns, top=0, left=0):
+    return tuple((top + row, left + column) for row in range(rows) for column in range(columns))
+
+
+def drawn(seed, rows, columns, percent):
+    """A floor of about percent of the cells, always the same one for the same seed."""
+    source = random.Random(seed)
+    return tuple(cell for cell in rectangle(rows, columns) if source.randrange(100) < percent)
+
+
+def drawn_floors():
+    found = []
+    for seed in range(60):
+        found.append(drawn(seed, 1 + seed % 7, 1 + seed % 5, 30 + seed))
+    found.append(drawn(100, 14, 14, 70))
+    found.append(drawn(101, 14, 14, 90))
+    found.append(drawn(102, 31, 31, 20))
+    return found
+
+
+def all_floors(rows, columns):
+    """Each floor that there is within the rectangle."""
+    cells = rectangle(rows, columns)
+    return [
+        tuple(cell for place, cell in enumerate(cells) if mask >> place & 1) for mask in range(1 << len(cells))
+    ]
+
+
+def apart(one, other):
+    return abs(one[0] - other[0]) + abs(one[1] - other[1])
+
+
+def drawn_text(text):
+    """A floor written as rows, read without the program."""
+    rows = text.split()
+    return tuple((row, column) for row, signs in enumerate(rows) for column, sign in enumerate(signs) if sign == ".")
+
+
+def is_plain(thing):
+    """Whether a told thing is made of tuples, texts, whole numbers and None alone."""
+    if type(thing) is tuple:
+        return all(is_plain(part) for part in thing)
+    return thing is None or type(thing) in (str, int)

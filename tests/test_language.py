@@ -1,0 +1,175 @@
+"""The form of the package's files: the rules that can be seen in the text or the tree of a file."""
+
+import ast
+import builtins
+import pathlib
+import re
+import unittest
+
+PACKAGE = pathlib.Path(__file__).resolve().parent.parent / "mowfloor"
+
+NODES = """
+Module Expr Constant ImportFrom alias FunctionDef arguments arg ClassDef Assign AugAssign If While For Return Break
+Continue Pass Raise Try ExceptHandler Call Name Load Store Attribute Subscript Slice List Tuple Dict Set ListComp
+comprehension IfExp BoolOp And Or UnaryOp Not USub UAdd Invert BinOp Add Sub Mult FloorDiv Mod Pow BitAnd BitOr BitXor
+LShift RShift Compare Eq NotEq Lt LtE Gt GtE Is IsNot In NotIn Lambda JoinedStr FormattedValue keyword
+""".split()
+
+OWN_NAMES = """
+len range enumerate zip min max sum abs sorted reversed int str bool list tuple dict set frozenset isinstance ord repr
+any all divmod Exception ValueError TypeError KeyError IndexError LookupError ZeroDivisionError ArithmeticError
+OverflowError RuntimeError NotImplementedError AttributeError StopIteration
+""".split()
+
+METHODS = """
+append clear copy count endswith extend find get index insert isalnum isalpha isdigit islower isspace isupper items
+join keys ljust lower lstrip partition pop remove replace reverse rfind rjust rpartition rsplit rstrip setdefault split
+splitlines startswith strip update upper values zfill bit_length
+""".split()
+
+OUT_WORDS = """
+type typing typing_extensions enum Enum IntEnum StrEnum Flag IntFlag Generic Protocol ABC ABCMeta namedtuple NamedTuple
+TypedDict TYPE_CHECKING abstractmethod
+""".split()
+
+SPECIAL_METHODS = ["__init__", "__eq__", "__repr__", "__str__", "__len__"]
+
+
+def files():
+    return sorted(path for path in PACKAGE.rglob("*") if path.is_file() and "__pycache__" not in path.parts)
+
+
+def trees():
+    return [(path, ast.parse(path.read_text())) for path in files()]
+
+
+def nodes(kind):
+    return [(path, node) for path, tree in trees() for node in ast.walk(tree) if isinstance(node, kind)]
+
+
+def top_names(tree):
+    found = []
+    for node in tree.body:
+        if isinstance(node, (ast.FunctionDef, ast.ClassDef)):
+            found.append(node.name)
+        elif isinstance(node, ast.Assign):
+            found.extend(target.id for target in node.targets)
+    return found
+
+
+def imported(tree):
+    return [name.name for node in tree.body if isinstance(node, ast.ImportFrom) for name in node.names]
+
+
+class Texts(unittest.TestCase):
+    def test_file_names(self):
+        self.assertTrue((PACKAGE / "__init__.py").is_file())
+        for path in files():
+            self.assertRegex(path.name, r"^([a-z][a-z0-9_]*|__init__|__main__)\.py$")
+            self.assertFalse(path.stem in dir(builtins) or path.stem in OUT_WORDS or path.stem.startswith("test"))
+
+    def test_signs_and_sizes(self):
+        for path in files():
+            text = path.read_text()
+            self.assertRegex(text, r"\A[ -~\n]*\Z", path.name)
+            self.assertLessEqual(len(text.split("\n")), 400, path.name)
+            self.assertLessEqual(max(len(row) for row in text.split("\n")), 120, path.name)
+
+    def test_words_that_stand_nowhere(self):
+        for path in files():
+            text = path.read_text()
+            self.assertEqual([word for word in OUT_WORDS if re.search(rf"\b{word}\b", text)], [], path.name)
+            self.assertIsNone(re.search("dataclass|overload|contextmanager", text), path.name)
+
+    def test_no_percent_and_no_other_escapes_within_texts(self):
+        for path, node in nodes(ast.Constant):
+            if isinstance(node.value, str):
+                self.assertNotIn("%", node.value, path.name)
+                self.assertRegex(node.value, r"\A[ -~\n\t]*\Z", path.name)
+            self.assertTrue(node.value is None or isinstance(node.value, (int, str)), path.name)
+
+
+class Trees(unittest.TestCase):
+    def test_nodes(self):
+        for path, node in nodes(ast.AST):
+            self.assertIn(node.__class__.__name__, NODES, f"{path.name}: {getattr(node, 'lineno', '')}")
+
+    def test_imports_come_from_the_file_that_defines_the_name_and_go_no_round(self):
+        tops = {path.stem: top_names(tree) for path, tree in trees()}
+        draws = {}
+        for path, tree in trees():
+            rows = [node for node in ast.walk(tree) if isinstance(node, ast.ImportFrom)]
+            self.assertEqual([node for node in rows if node not in tree.body], [])
+            draws[path.stem] = []
+            for node in rows:
+                self.assertRegex(node.module, r"^mowfloor\.[a-z_]+$")
+                self.assertEqual(node.level, 0)
+                stem = node.module.split(".")[1]
+                draws[path.stem].append(stem)
+                for name in node.names:
+                    self.assertIn(name.name, tops[stem])
+                    self.assertIsNone(name.asname)
+        done = []
+        while len(done) < len(draws):
+            ready = [stem for stem in draws if stem not in done and all(other in done for other in draws[stem])]
+            self.assertNotEqual(ready, [], "files draw from one another")
+            done.extend(ready)
+
+    def test_imported_names_are_used_and_top_names_bound_once(self):
+        for path, tree in trees():
+            used = [node.id for node in ast.walk(tree) if isinstance(node, ast.Name)]
+            self.assertEqual([name for name in imported(tree) if name not in used], [], path.name)
+            bound = top_names(tree) + imported(tree)
+            self.assertEqual(len(set(bound)), len(bound), path.name)
+
+    def test_functions(self):
+        for path, node in nodes(ast.FunctionDef):
+            where = f"{path.name}: {node.name}"
+            self.assertLessEqual(node.end_lineno - node.lineno + 1, 40, where)
+            self.assertEqual(node.decorator_list, [], where)
+            self.assertFalse(node.args.vararg or node.args.kwarg or node.args.kwonlyargs or node.args.posonlyargs, where)
+            self.assertTrue(node.name in SPECIAL_METHODS or not node.name.startswith("_"), where)
+
+    def test_classes(self):
+        for path, node in nodes(ast.ClassDef):
+            self.assertLessEqual(len(node.bases), 1)
+            self.assertEqual(node.decorator_list + node.keywords, [])
+            for part in node.body:
+                self.assertIsInstance(part, (ast.FunctionDef, ast.Pass))
+
+    def test_bound_names(self):
+        for path, tree in trees():
+            outer = imported(tree) + [node.name for node in tree.body if isinstance(node, ast.ClassDef)]
+            for node in ast.walk(tree):
+                name = None
+                if isinstance(node, ast.arg):
+                    name = node.arg
+                elif isinstance(node, ast.Name) and isinstance(node.ctx, ast.Store):
+                    name = node.id
+                if name is not None:
+                    self.assertRegex(name, r"^[A-Za-z][A-Za-z0-9_]*$", path.name)
+                    self.assertNotIn(name, outer + dir(builtins), path.name)
+
+    def test_pythons_own_names_and_methods(self):
+        own = [node.name for path, node in nodes(ast.FunctionDef)]
+        for path, tree in trees():
+            for node in ast.walk(tree):
+                if isinstance(node, ast.Name) and node.id in dir(builtins):
+                    self.assertIn(node.id, OWN_NAMES, path.name)
+                if isinstance(node, ast.Call) and isinstance(node.func, ast.Attribute):
+                    self.assertIn(node.func.attr, METHODS + own, path.name)
+
+    def test_statements(self):
+        for path, node in nodes((ast.For, ast.While)):
+            self.assertEqual(node.orelse, [], path.name)
+        for path, node in nodes(ast.Assign):
+            self.assertEqual(len(node.targets), 1, path.name)
+        for path, node in nodes(ast.ListComp):
+            self.assertEqual(len(node.generators), 1, path.name)
+            self.assertLessEqual(len(node.generators[0].ifs), 1, path.name)
+        for path, node in nodes(ast.Try):
+            self.assertEqual(node.finalbody, [], path.name)
+        for path, node in nodes(ast.Compare):
+            for operator, right in zip(node.ops, node.comparators):
+                if isinstance(operator, (ast.Is, ast.IsNot)):
+                    self.assertTrue(isinstance(right, ast.Constant) and right.value in (None, True, False), path.name)
