@@ -46,6 +46,15 @@ def junk():
     ]
 
 
+def same(thing, wanted):
+    """Whether thing is wanted, to each kind, asked so that a thorny part of thing is never compared."""
+    if type(thing) is not type(wanted):
+        return False
+    if type(thing) is tuple:
+        return len(thing) == len(wanted) and all(same(part, other) for part, other in zip(thing, wanted))
+    return type(thing) in (int, str) and thing == wanted
+
+
 def rectangle(rows, columns, top=0, left=0):
     return tuple((top + row, left + column) for row in range(rows) for column in range(columns))
 
@@ -76,6 +85,25 @@ def all_floors(rows, columns):
 
 def apart(one, other):
     return abs(one[0] - other[0]) + abs(one[1] - other[1])
+
+
+def held(run):
+    """The cells of a run, counted without the program."""
+    word, (row, column), many = run
+    return [(row + step, column) if word == "down" else (row, column + step) for step in range(many)]
+
+
+def all_runs(floor):
+    """Each row of cells that can't be longer, by a look at all rows of cells."""
+    found = []
+    for word in ("down", "right"):
+        for cell in floor:
+            for many in range(1, 32):
+                cells = held((word, cell, many))
+                longer = held((word, (cell[0] - (word == "down"), cell[1] - (word == "right")), many + 2))
+                if set(cells) <= set(floor) and longer[0] not in floor and longer[-1] not in floor:
+                    found.append((word, cell, many))
+    return found
 
 
 def drawn_text(text):

@@ -4,7 +4,7 @@ import unittest
 from mowfloor.errors import NoFit
 from mowfloor.floors import is_field, is_floor
 from mowfloor.places import mown, never, places, shows_never
-from tests.samples import all_floors, apart, drawn, drawn_text, is_plain, junk, rectangle
+from tests.samples import all_floors, apart, drawn, drawn_text, is_plain, junk, rectangle, same
 
 # Two rooms, two wide, behind a door that is one wide; one cell apart.
 ROOMS = drawn_text("""
@@ -203,8 +203,8 @@ class ShowsNever(unittest.TestCase):
         for thing in junk():
             self.shows(thing, False)
             self.shows(((0, 0), (1, 0), thing), False)
-            self.shows(((0, 0), (thing, 0)), thing.__class__ is int and thing == 1)
-            self.shows(((0, 0), (1, thing)), thing.__class__ is int and thing == 0)
+            self.shows(((0, 0), (thing, 0)), same(thing, 1))
+            self.shows(((0, 0), (1, thing)), same(thing, 0))
 
     def test_a_start_where_it_does_not_fit(self):
         for start in [(0, 2), (2, 0), (30, 30), (3, 3), (1, 1)]:
