@@ -1,7 +1,8 @@
 """Floors and things that the tests share."""
 
+import itertools
 import random
-from collections import namedtuple
+from collections import Counter, namedtuple
 
 
 class Thorny:
@@ -117,3 +118,112 @@ def is_plain(thing):
     if type(thing) is tuple:
         return all(is_plain(part) for part in thing)
     return thing is None or type(thing) in (str, int)
+
+
+RING = drawn_text("""
+...
+.#.
+...
+""")
+COMB = drawn_text("""
+.......
+.#.#.#.
+.#.#.#.
+""")
+HOLES = drawn_text("""
+......
+.#..#.
+......
+#.#...
+""")
+
+
+def small_fields():
+    """One cell, two cells, straight rows, whole squares, rings, combs, fields with holes."""
+    return [
+        ((0, 0),), ((30, 30),), ((0, 0), (0, 1)), ((4, 7), (5, 7)), rectangle(1, 5), rectangle(6, 1, 3, 3),
+        rectangle(2, 2), rectangle(3, 3, 1, 2), rectangle(4, 4), RING, COMB, HOLES, comb(1), comb(3),
+        drawn_text("....\n.##.\n....\n"), drawn_text(".#\n..\n.#\n"), drawn_text("#.#\n...\n#.#\n"),
+        drawn_text(".....\n.#.#.\n.....\n.#.#.\n....."),
+    ]
+
+
+def comb(teeth):
+    """A row with a tooth below every second cell: with its ends, 2 for each tooth and 2 more have an odd number."""
+    row = rectangle(1, 2 * teeth + 1)
+    return row + tuple((1, column) for column in range(1, 2 * teeth, 2))
+
+
+def fields_of(floor):
+    """The parts of a floor, without the program."""
+    left = set(floor)
+    found = []
+    while left:
+        part = {min(left)}
+        while True:
+            more = {cell for cell in left - part if any(apart(cell, other) == 1 for other in part)}
+            if not more:
+                break
+            part |= more
+        left -= part
+        found.append(tuple(sorted(part)))
+    return found
+
+
+def all_fields(rows, columns):
+    """Each field that there is within the rectangle."""
+    return [floor for floor in all_floors(rows, columns) if len(fields_of(floor)) == 1]
+
+
+def drawn_fields():
+    """Larger fields, of up to 200 cells, the greatest part of a drawn floor each."""
+    found = []
+    for seed in range(40):
+        floor = drawn(200 + seed, 3 + seed % 12, 3 + seed % 11, 60 + seed % 4 * 10)
+        found.append(max(fields_of(floor), key=len))
+    return found
+
+
+def pairs_of_cells(field, many):
+    """Some pairs of a field, first the ends, each also with itself."""
+    source = random.Random(len(field))
+    found = [(field[0], field[-1]), (field[-1], field[0]), (field[0], field[0]), (field[-1], field[-1])]
+    while len(found) < many:
+        found.append((source.choice(field), source.choice(field)))
+    return found
+
+
+def all_pairs(field):
+    return [(a, b) for a in field for b in field]
+
+
+def lanes_by_words(field):
+    """All lanes, by a look at all pairs of cells."""
+    return tuple(pair for pair in itertools.combinations(field, 2) if apart(*pair) == 1)
+
+
+def odd_by_words(field, a, b):
+    counted = [cell for lane in lanes_by_words(field) for cell in lane] + [a] + [b]
+    many = Counter(counted)
+    return tuple(cell for cell in field if many[cell] % 2 == 1)
+
+
+def has_odd_at(some, cells):
+    """Whether just these cells have an odd number of the lanes."""
+    many = Counter(cell for lane in some for cell in lane)
+    return {cell for cell in many if many[cell] % 2 == 1} == set(cells)
+
+
+def leads_out(lane, fence):
+    return (lane[0] in fence) != (lane[1] in fence)
+
+
+def are_fences_by_words(field, a, b, some):
+    """Of a tuple of tuples of cells alone."""
+    odd = odd_by_words(field, a, b)
+    for fence in some:
+        if list(fence) != sorted(set(fence)) or not set(fence) <= set(field) or len(set(fence) & set(odd)) % 2 == 0:
+            return False
+    if list(some) != sorted(set(some)):
+        return False
+    return all(sum(leads_out(lane, fence) for fence in some) <= 1 for lane in lanes_by_words(field))
