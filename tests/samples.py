@@ -227,3 +227,14 @@ def are_fences_by_words(field, a, b, some):
     if list(some) != sorted(set(some)):
         return False
     return all(sum(leads_out(lane, fence) for fence in some) <= 1 for lane in lanes_by_words(field))
+
+
+def steps_by_words(field, walk):
+    """The lanes of a walk's steps, one by one; fails where it is no walk of the field."""
+    for cell in walk:
+        if cell not in field:
+            raise AssertionError(f"{cell} is not of the field")
+    for one, other in zip(walk, walk[1:]):
+        if apart(one, other) != 1:
+            raise AssertionError(f"{one} and {other} are no neighbours")
+    return [tuple(sorted(step)) for step in zip(walk, walk[1:])]

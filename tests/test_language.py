@@ -32,6 +32,21 @@ type typing typing_extensions enum Enum IntEnum StrEnum Flag IntFlag Generic Pro
 TypedDict TYPE_CHECKING abstractmethod
 """.split()
 
+OUT_NAMES = """
+register mro elements open input version_info with_traceback add_note attrgetter breakpoint builtins compile copyright
+credits delattr dir eval exec exit gc getattr globals hasattr help id importlib license locals methodcaller os quit
+setattr super vars sys chr format format_map
+""".split()
+
+# Walked where they stand, in these calls, in a loop or in a comprehension.
+WALKED = "zip enumerate reversed range items keys values".split()
+WALKERS = "list tuple dict sorted sum any all enumerate zip min max join".split()
+
+KEYWORDS = {
+    "sorted": ["key", "reverse"], "min": ["key", "default"], "max": ["key", "default"], "sum": ["start"],
+    "enumerate": ["start"], "zip": ["strict"],
+}
+
 SPECIAL_METHODS = ["__init__", "__eq__", "__repr__", "__str__", "__len__"]
 
 
@@ -45,6 +60,23 @@ def trees():
 
 def nodes(kind):
     return [(path, node) for path, tree in trees() for node in ast.walk(tree) if isinstance(node, kind)]
+
+
+def called(node):
+    """The name by which a call calls."""
+    if not isinstance(node, ast.Call):
+        return None
+    return node.func.attr if isinstance(node.func, ast.Attribute) else getattr(node.func, "id", None)
+
+
+def walked_names(node):
+    """The names of what a loop walks, itself or through one of Python's own."""
+    if isinstance(node, ast.Name):
+        return [node.id]
+    if called(node) not in WALKED:
+        return []
+    inner = [node.func.value] if isinstance(node.func, ast.Attribute) else node.args
+    return [name for part in inner for name in walked_names(part)]
 
 
 def top_names(tree):
@@ -173,3 +205,60 @@ class Trees(unittest.TestCase):
             for operator, right in zip(node.ops, node.comparators):
                 if isinstance(operator, (ast.Is, ast.IsNot)):
                     self.assertTrue(isinstance(right, ast.Constant) and right.value in (None, True, False), path.name)
+
+    def test_names_that_are_not_used(self):
+        for path, node in nodes((ast.Name, ast.Attribute)):
+            name = node.id if isinstance(node, ast.Name) else node.attr
+            self.assertNotIn(name, OUT_NAMES, path.name)
+            self.assertTrue(name in SPECIAL_METHODS or not name.startswith("_"), path.name)
+
+    def test_walked_at_once(self):
+        for path, tree in trees():
+            walked = [id(node.iter) for node in ast.walk(tree) if isinstance(node, (ast.For, ast.comprehension))]
+            for node in ast.walk(tree):
+                if called(node) in WALKERS and node.args:
+                    walked.extend(id(part) for part in (node.args if called(node) == "zip" else node.args[:1]))
+            for node in ast.walk(tree):
+                if called(node) in WALKED:
+                    self.assertIn(id(node), walked, f"{path.name}: {node.lineno}")
+
+    def test_what_a_loop_walks_is_not_changed_in_it(self):
+        for path, loop in nodes(ast.For):
+            names = walked_names(loop.iter)
+            for node in ast.walk(ast.Module(body=loop.body, type_ignores=[])):
+                changed = None
+                if called(node) in "append clear extend insert pop remove reverse setdefault update".split():
+                    changed = node.func.value
+                elif isinstance(node, ast.Subscript) and isinstance(node.ctx, ast.Store):
+                    changed = node.value
+                if isinstance(changed, ast.Name):
+                    self.assertNotIn(changed.id, names, f"{path.name}: {node.lineno}")
+
+    def test_keywords_and_kinds(self):
+        own = [node.name for path, node in nodes((ast.FunctionDef, ast.ClassDef))]
+        for path, node in nodes(ast.Call):
+            if called(node) not in own:
+                for keyword in node.keywords:
+                    self.assertIn(keyword.arg, KEYWORDS.get(called(node), []), f"{path.name}: {node.lineno}")
+            if called(node) == "isinstance":
+                kinds = node.args[1].elts if isinstance(node.args[1], ast.Tuple) else [node.args[1]]
+                for kind in kinds:
+                    self.assertIn(kind.id, ["int", "str", "bool", "list", "tuple", "dict"] + own, path.name)
+
+    def test_no_sets_kept_no_powers_of_a_name_no_annotations(self):
+        for path, tree in trees():
+            for node in ast.walk(tree):
+                self.assertFalse(isinstance(node, ast.Set) or called(node) in ("set", "frozenset"), path.name)
+                if isinstance(node, ast.BinOp) and isinstance(node.op, ast.Pow):
+                    self.assertIsInstance(node.right, ast.Constant, path.name)
+                if isinstance(node, ast.arg):
+                    self.assertIsNone(node.annotation, path.name)
+                if isinstance(node, ast.FunctionDef):
+                    self.assertIsNone(node.returns, path.name)
+
+    def test_errors(self):
+        own = [node.name for path, node in nodes(ast.ClassDef)]
+        for path, node in nodes(ast.Raise):
+            self.assertIn(called(node.exc), own, path.name)
+        for path, node in nodes(ast.ExceptHandler):
+            self.assertIn(getattr(node.type, "id", None), own + ["KeyError", "ZeroDivisionError", "ValueError"], path.name)
