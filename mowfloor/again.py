@@ -1,8 +1,8 @@
 """The fewest lanes that a walk along all lanes goes twice."""
 
-from mowfloor.cells import around, lookup
+from mowfloor.cells import around, lesser_first, lookup
 from mowfloor.errors import TooMany
-from mowfloor.lanes import lane_of, odd_cells
+from mowfloor.lanes import odd_cells
 from mowfloor.steps import fewest_pairs, steps_from_each
 
 MOST = 14
@@ -20,7 +20,7 @@ def lanes_back(steps, cell):
     found = []
     while steps[cell] > 0:
         nearer = [beside for beside in around(cell) if steps.get(beside) == steps[cell] - 1][0]
-        found.append(lane_of(cell, nearer))
+        found.append(lesser_first(cell, nearer))
         cell = nearer
     return found
 

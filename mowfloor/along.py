@@ -1,7 +1,8 @@
 """Walks along all lanes, and how often a walk goes along each."""
 
 from mowfloor.again import again
-from mowfloor.lanes import lane_of, lanes
+from mowfloor.cells import lesser_first
+from mowfloor.lanes import lanes
 
 
 # For each cell, the cells to which a walk has yet to go from there or come from: each lane at both its ends.
@@ -38,6 +39,6 @@ def all_lanes(field, a, b):
 def gone(walk):
     often = {}
     for ahead, behind in zip(walk, walk[1:]):
-        lane = lane_of(ahead, behind)
+        lane = lesser_first(ahead, behind)
         often[lane] = often.get(lane, 0) + 1
     return tuple(sorted(often.items()))

@@ -12,6 +12,14 @@ def is_pair(thing):
     return isinstance(thing, tuple) and len(thing) == 2 and is_whole(thing[0]) and is_whole(thing[1])
 
 
+def are_two_pairs(thing):
+    return isinstance(thing, tuple) and len(thing) == 2 and is_pair(thing[0]) and is_pair(thing[1])
+
+
+def is_of(field, thing):
+    return is_pair(thing) and thing in field
+
+
 def is_cell(thing):
     return is_pair(thing) and 0 <= thing[0] <= GREATEST and 0 <= thing[1] <= GREATEST
 
@@ -21,6 +29,10 @@ def is_rising(thing, is_kind):
     if not isinstance(thing, tuple) or not all([is_kind(part) for part in thing]):
         return False
     return all([ahead < behind for ahead, behind in zip(thing, thing[1:])])
+
+
+def lesser_first(one, other):
+    return (min(one, other), max(one, other))
 
 
 def lookup(things):

@@ -1,20 +1,12 @@
 """A look at fences, and at what is said to be the fewest lanes gone twice."""
 
-from mowfloor.cells import is_pair, is_rising, lookup
+from mowfloor.cells import are_two_pairs, is_of, is_pair, is_rising, lookup
 from mowfloor.floors import is_field
 from mowfloor.lanes import lanes, odd_cells
 
 
-def is_of(field, thing):
-    return is_pair(thing) and thing in field
-
-
 def is_fence_like(thing):
     return is_rising(thing, is_pair)
-
-
-def is_lane_like(thing):
-    return isinstance(thing, tuple) and len(thing) == 2 and is_pair(thing[0]) and is_pair(thing[1])
 
 
 def is_fence(free, odd, cells):
@@ -53,7 +45,7 @@ def oddly_met(field, some):
 
 # Each fence has one of such lanes at least that leads out of it, and no lane leads out of two: no fewer would do.
 def shows_least(field, a, b, some, thing):
-    if not are_fences(field, a, b, thing) or not is_rising(some, is_lane_like) or len(some) != len(thing):
+    if not are_fences(field, a, b, thing) or not is_rising(some, are_two_pairs) or len(some) != len(thing):
         return False
     every = lookup(lanes(field))
     return all([lane in every for lane in some]) and oddly_met(field, some) == odd_cells(field, a, b)

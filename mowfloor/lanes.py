@@ -4,10 +4,6 @@ from mowfloor.cells import lookup
 from mowfloor.floors import neighbours
 
 
-def lane_of(one, other):
-    return (min(one, other), max(one, other))
-
-
 def lanes(field):
     free = lookup(field)
     found = []

@@ -238,3 +238,68 @@ def steps_by_words(field, walk):
         if apart(one, other) != 1:
             raise AssertionError(f"{one} and {other} are no neighbours")
     return [tuple(sorted(step)) for step in zip(walk, walk[1:])]
+
+
+def of_blocks(coarse, top=0, left=0):
+    """The field that has a block for each cell of a coarse floor, moved down and to the right."""
+    return tuple(sorted(
+        (top + 2 * row + below, left + 2 * column + aside)
+        for row, column in coarse for below in (0, 1) for aside in (0, 1)
+    ))
+
+
+def block_fields():
+    """Fields of blocks with their blocks: one block, rows, squares, rings, combs, moved by odd and even numbers."""
+    coarse = [
+        ((0, 0),), rectangle(1, 2), rectangle(2, 1), rectangle(1, 15), rectangle(15, 1), rectangle(2, 2), rectangle(3, 3),
+        rectangle(2, 4), RING, COMB, HOLES, comb(3), drawn_text(".#\n..\n.#\n"), drawn_text("#.#\n...\n#.#\n"),
+        drawn_text("#..\n..#\n.#.\n...\n"), drawn_text("##.\n#..\n..#\n"),
+    ]
+    return [
+        (of_blocks(some, top, left), tuple((top + 2 * row, left + 2 * column) for row, column in some))
+        for some in coarse for top, left in [(0, 0), (0, 1), (1, 0), (1, 1), (2, 2), (3, 2), (16, 17)]
+        if max(row for row, column in some) * 2 + top < 30 and max(column for row, column in some) * 2 + left < 30
+    ]
+
+
+def drawn_block_fields():
+    """Larger ones, of up to 50 blocks."""
+    found = []
+    for seed in range(30):
+        coarse = max(fields_of(drawn(400 + seed, 2 + seed % 6, 2 + seed % 7, 60 + seed)), key=len)
+        top, left = seed % 3, seed % 2
+        found.append((of_blocks(coarse, top, left), tuple((top + 2 * row, left + 2 * column) for row, column in coarse)))
+    return found
+
+
+def branches_by_words(some):
+    """Each branch that there can be, by a look at all pairs of blocks."""
+    return tuple(
+        (one, other) for one, other in itertools.combinations(some, 2)
+        if (abs(one[0] - other[0]), abs(one[1] - other[1])) in [(0, 2), (2, 0)]
+    )
+
+
+def hang_together(some, branches):
+    """Whether each block comes to each other one by the branches."""
+    met = {some[0]}
+    for _ in some:
+        met |= {block for branch in branches if set(branch) & met for block in branch}
+    return met == set(some)
+
+
+def all_trees(some):
+    return [
+        tree for tree in itertools.combinations(branches_by_words(some), len(some) - 1) if hang_together(some, tree)
+    ]
+
+
+def drawn_tree(some, seed):
+    """A tree of the blocks, always the same one for the same seed."""
+    source = random.Random(seed)
+    every = list(branches_by_words(some))
+    source.shuffle(every)
+    for branch in list(every):
+        if hang_together(some, [other for other in every if other != branch]):
+            every.remove(branch)
+    return tuple(sorted(every))
