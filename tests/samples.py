@@ -40,7 +40,8 @@ def junk():
         ([0, 0],), ((0, 0), [0, 1]), [(0, 0), (0, 1)], ((0, 0.0),), ((0.0, 0),), (("0", "0"),),
         ((True, 0),), ((0, True),), ((False, 0),), ((0, False),), ((None, 0),), ((0, None),),
         (([], 0),), ((0, {}),), ((Thorny(), 0),), ((0, Thorny()),), ((0, (0,)),), (((0, 0),),),
-        ((0, 0), (0, 0)), ((0, 1), (0, 0)), ((1, 0), (0, 0)), ((0, -1),), ((-1, 0),), ((10 ** 40, 0),), ((0, 10 ** 40),),
+        ((0, 0), (0, 0)), ((0, 1), (0, 0)), ((1, 0), (0, 0)), ((0, -1),), ((-1, 0),), ((10 ** 40, 0),),
+        ((0, 10 ** 40),),
         nested(60, lambda thing: (thing,)), nested(60, lambda thing: [thing]), nested(60, lambda thing: {0: thing}),
         nested(60, lambda thing: (thing, thing)[:1]), (nested(59, lambda thing: (thing,)), 0),
         ((nested(58, lambda thing: (thing,)), 0),), ((0, nested(58, lambda thing: [thing])),),
@@ -251,7 +252,8 @@ def of_blocks(coarse, top=0, left=0):
 def block_fields():
     """Fields of blocks with their blocks: one block, rows, squares, rings, combs, moved by odd and even numbers."""
     coarse = [
-        ((0, 0),), rectangle(1, 2), rectangle(2, 1), rectangle(1, 15), rectangle(15, 1), rectangle(2, 2), rectangle(3, 3),
+        ((0, 0),), rectangle(1, 2), rectangle(2, 1), rectangle(1, 15), rectangle(15, 1), rectangle(2, 2),
+        rectangle(3, 3),
         rectangle(2, 4), RING, COMB, HOLES, comb(3), drawn_text(".#\n..\n.#\n"), drawn_text("#.#\n...\n#.#\n"),
         drawn_text("#..\n..#\n.#.\n...\n"), drawn_text("##.\n#..\n..#\n"),
     ]
@@ -268,7 +270,8 @@ def drawn_block_fields():
     for seed in range(30):
         coarse = max(fields_of(drawn(400 + seed, 2 + seed % 6, 2 + seed % 7, 60 + seed)), key=len)
         top, left = seed % 3, seed % 2
-        found.append((of_blocks(coarse, top, left), tuple((top + 2 * row, left + 2 * column) for row, column in coarse)))
+        some = tuple((top + 2 * row, left + 2 * column) for row, column in coarse)
+        found.append((of_blocks(coarse, top, left), some))
     return found
 
 
@@ -303,3 +306,42 @@ def drawn_tree(some, seed):
         if hang_together(some, [other for other in every if other != branch]):
             every.remove(branch)
     return tuple(sorted(every))
+
+
+def steps_of_share(left, right):
+    return left + right + min(left, right)
+
+
+def spaces_by_words(many, spots):
+    """How many places lie between each spot and the next one, counted one by one."""
+    found = []
+    for spot in spots:
+        space = 0
+        while (spot + space + 1) % many not in spots:
+            space += 1
+        found.append(space)
+    return found
+
+
+def held_by_shares(many, spots, some):
+    """The places of all shares, one share behind the other."""
+    found = []
+    for spot, (left, right) in zip(spots, some):
+        found.extend((spot + step) % many for step in range(-left, right + 1))
+    return found
+
+
+def rings_of_places():
+    """(many, spots): all small ones, and drawn ones of up to 200 places and 8 spots."""
+    found = []
+    for many in range(1, 9):
+        for several in range(1, min(many, 4) + 1):
+            found.extend((many, spots) for spots in itertools.combinations(range(many), several))
+    source = random.Random(7)
+    for seed in range(60):
+        many = source.randrange(1, 201)
+        found.append((many, tuple(sorted(source.sample(range(many), min(many, 1 + seed % 8))))))
+    found.extend([(200, (0,)), (200, (199,)), (200, tuple(range(8))), (200, tuple(range(192, 200)))])
+    found.append((8, tuple(range(8))))
+    found.extend([(200, (0, 100)), (200, (0, 199)), (200, tuple(range(0, 200, 25))), (4, (0, 3)), (9, (0, 1, 8))])
+    return found

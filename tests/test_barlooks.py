@@ -5,7 +5,8 @@ import unittest
 from mowfloor.barlooks import shows_barred
 from mowfloor.bars import barred
 from tests.samples import (
-    HOLES, RING, Thorny, all_fields, all_pairs, apart, drawn_fields, drawn_text, fields_of, junk, nested, pairs_of_cells,
+    HOLES, RING, Thorny, all_fields, all_pairs, apart, drawn_fields, drawn_text, fields_of, junk, nested,
+    pairs_of_cells,
     rectangle, same, small_fields,
 )
 
@@ -74,14 +75,15 @@ class ShowsBarred(unittest.TestCase):
             self.shows(((0, column),), (row,), True, row, (0, 0), (0, 5))
         for column in (0, 5, 6):
             self.shows(((0, column),), (row,), False, row, (0, 0), (0, 5))
-        self.shows(((0, 1), (1, 2)), (RING[:3] + ((1, 2), (2, 2)), ((0, 0), (1, 0), (2, 0), (2, 1), (2, 2))), False, RING, A, B)
+        self.shows(((0, 1), (1, 2)), (RING[:3] + ((1, 2), (2, 2)), UNDER), False, RING, A, B)
         for cells in [((0, 1), (1, 0)), ((0, 2), (2, 0)), ((1, 2), (2, 1)), ((1, 0), (1, 2)), ((0, 1), (2, 1))]:
             self.shows(cells, (RING[:3] + ((1, 2), (2, 2)), UNDER), True, RING, A, B)
 
     def test_a_long_way_round_is_a_way_too(self):
         field = rectangle(2, 3)
         long = ((0, 0), (1, 0), (1, 1), (0, 1), (0, 2))
-        self.shows(((0, 1), (1, 1)), (((0, 0), (0, 1), (0, 2)), ((0, 0), (1, 0), (1, 1), (1, 2), (0, 2))), True, field, A, (0, 2))
+        ways = (((0, 0), (0, 1), (0, 2)), ((0, 0), (1, 0), (1, 1), (1, 2), (0, 2)))
+        self.shows(((0, 1), (1, 1)), ways, True, field, A, (0, 2))
         self.shows(((0, 1), (1, 1)), (long,), False, field, A, (0, 2))
         snake = drawn_text("...\n##.\n...\n")
         self.shows(((1, 2),), (((0, 0), (0, 1), (0, 2), (1, 2), (2, 2), (2, 1), (2, 0)),), True, snake, A, (2, 0))
@@ -110,7 +112,8 @@ class ShowsBarred(unittest.TestCase):
 
     def test_cells_spoilt(self):
         for cells in [
-            (), ((0, 1),), ((1, 0),), ((0, 1), (1, 0), (1, 1)), ((0, 1), (0, 1)), ((0, 1), (0, 1), (1, 0)), ((1, 0), (0, 1)),
+            (), ((0, 1),), ((1, 0),), ((0, 1), (1, 0), (1, 1)), ((0, 1), (0, 1)), ((0, 1), (0, 1), (1, 0)),
+            ((1, 0), (0, 1)),
             ((0, 0), (0, 1)), ((0, 0), (1, 0)), ((0, 1), (2, 2)), ((0, 0), (2, 2)), ((0, 0), (0, 1), (1, 0)),
             ((0, 1), (1, 0), (2, 2)), ((0, 1), (0, 3)), ((0, 3), (1, 0)), ((0, 1), (1, 0), (3, 3)), ((-1, 0), (0, 1)),
             ((0, 1), (1, 1)), ((0, 1), (1, 2)), ((0, 2), (1, 1)), ((0, 1), (30, 31)), ((0, 2), (2, 0)),
@@ -124,17 +127,22 @@ class ShowsBarred(unittest.TestCase):
 
     def test_ways_spoilt(self):
         for ways in [
-            (), (OVER,), (UNDER,), (UNDER, OVER), (OVER, OVER), (UNDER, UNDER), (OVER, UNDER, UNDER), (OVER, OVER, UNDER),
+            (), (OVER,), (UNDER,), (UNDER, OVER), (OVER, OVER), (UNDER, UNDER), (OVER, UNDER, UNDER),
+            (OVER, OVER, UNDER),
             (OVER[:2] + OVER[3:], UNDER), (OVER[:1] + OVER[2:], UNDER), (OVER, UNDER[:3] + UNDER[4:]),
             (OVER[:-1], UNDER), (OVER, UNDER[:-1]), (OVER[1:], UNDER), (OVER, UNDER[1:]),
             (OVER + OVER[-1:], UNDER), (OVER[:1] + OVER, UNDER), (OVER[:2] + OVER[1:], UNDER),
             (((0, 0), (0, 1), (0, 0)) + OVER[1:], UNDER), (OVER[:2] + OVER, UNDER), (OVER + ((1, 2), (2, 2)), UNDER),
-            (OVER + ((2, 1), (2, 2)), UNDER), (OVER[:3] + OVER[1:], UNDER), (OVER[:3] + ((0, 1), (0, 2)) + OVER[3:], UNDER),
-            (((0, 0), (0, 1), (1, 1), (1, 0), (2, 0), (2, 1), (2, 2)), UNDER), (OVER, ((0, 0), (1, 0), (1, 1), (1, 2), (2, 2))),
+            (OVER + ((2, 1), (2, 2)), UNDER), (OVER[:3] + OVER[1:], UNDER),
+            (OVER[:3] + ((0, 1), (0, 2)) + OVER[3:], UNDER),
+            (((0, 0), (0, 1), (1, 1), (1, 0), (2, 0), (2, 1), (2, 2)), UNDER),
+            (OVER, ((0, 0), (1, 0), (1, 1), (1, 2), (2, 2))),
             (((0, 0), (0, 1), (1, 1), (1, 2), (2, 2)), ((0, 0), (1, 0), (1, 1), (2, 1), (2, 2))),
-            (OVER[:3] + ((0, 3), (1, 3), (1, 2), (2, 2)), UNDER), (((0, 0), (-1, 0), (-1, 1), (0, 1)) + OVER[2:], UNDER),
+            (OVER[:3] + ((0, 3), (1, 3), (1, 2), (2, 2)), UNDER),
+            (((0, 0), (-1, 0), (-1, 1), (0, 1)) + OVER[2:], UNDER),
             tuple(reversed([tuple(reversed(way)) for way in WAYS])), tuple(tuple(reversed(way)) for way in WAYS),
-            (OVER, tuple(reversed(UNDER))), ((), OVER), (((0, 0),), OVER), (((0, 0), (2, 2)), OVER), (((0, 0), (2, 2)), UNDER),
+            (OVER, tuple(reversed(UNDER))), ((), OVER), (((0, 0),), OVER), (((0, 0), (2, 2)), OVER),
+            (((0, 0), (2, 2)), UNDER),
         ]:
             self.shows(CELLS, ways, False)
             self.shows(((1, 2), (2, 1)), ways, False)

@@ -3,7 +3,8 @@ import unittest
 from mowfloor.blocks import blocks
 from mowfloor.errors import MowError, NoBlocks
 from tests.samples import (
-    RING, all_fields, apart, block_fields, comb, drawn_block_fields, drawn_fields, drawn_text, is_plain, of_blocks, rectangle,
+    RING, all_fields, apart, block_fields, comb, drawn_block_fields, drawn_fields, drawn_text, is_plain, of_blocks,
+    rectangle,
 )
 
 
@@ -55,7 +56,8 @@ class Blocks(unittest.TestCase):
         for field in [
             ((0, 0),), ((30, 30),), rectangle(1, 2), rectangle(1, 4), rectangle(4, 1), rectangle(3, 3), rectangle(3, 4),
             rectangle(2, 3), rectangle(3, 2), rectangle(2, 5), rectangle(6, 6)[:-1], rectangle(6, 6)[1:], RING, comb(3),
-            drawn_text("...\n..#\n"), drawn_text("..\n..\n.#\n"), drawn_text(".##\n...\n#..\n"), drawn_text("#..\n...\n"),
+            drawn_text("...\n..#\n"), drawn_text("..\n..\n.#\n"), drawn_text(".##\n...\n#..\n"),
+            drawn_text("#..\n...\n"),
         ]:
             self.refused(field)
 

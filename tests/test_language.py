@@ -169,6 +169,39 @@ class Trees(unittest.TestCase):
             for part in node.body:
                 self.assertIsInstance(part, (ast.FunctionDef, ast.Pass))
 
+    def test_methods_and_values_of_objects(self):
+        methods = {}
+        values = set()
+        for path, node in nodes(ast.ClassDef):
+            own = [part.name for part in node.body if isinstance(part, ast.FunctionDef)]
+            self.assertEqual(len(set(own)), len(own), node.name)
+            methods.update((name, node.name) for name in own if name not in SPECIAL_METHODS)
+            self.assertEqual([name for name in own if name.startswith("__") and name != "__init__"], [], node.name)
+            for part in ast.walk(node):
+                if isinstance(part, ast.Attribute) and isinstance(part.ctx, ast.Store):
+                    self.assertEqual(part.value.id, "self", node.name)
+                    values.add(part.attr)
+        kinds = (str, int, list, dict, set, frozenset, tuple, bytes)
+        self.assertEqual(values & set(methods), set())
+        self.assertEqual([name for name in values | set(methods) if any(hasattr(kind, name) for kind in kinds)], [])
+        for path, node in nodes(ast.Attribute):
+            if isinstance(node.ctx, ast.Store):
+                self.assertIn(node.attr, values, path.name)
+
+    def test_what_lies_at_a_files_top_is_plain_and_only_read(self):
+        for path, tree in trees():
+            kept = [node for node in tree.body if isinstance(node, ast.Assign)]
+            for node in kept:
+                self.assertIsNotNone(ast.literal_eval(node.value), path.name)
+            shared = [node.targets[0].id for node in kept if isinstance(node.value, (ast.Dict, ast.List))]
+            for node in ast.walk(tree):
+                if isinstance(node, ast.Call):
+                    self.assertFalse([part for part in node.args if getattr(part, "id", None) in shared], path.name)
+                if called(node) in "append clear extend insert pop remove reverse setdefault update".split():
+                    self.assertNotIn(getattr(node.func.value, "id", None), shared, path.name)
+                if isinstance(node, ast.Subscript) and isinstance(node.ctx, ast.Store):
+                    self.assertNotIn(getattr(node.value, "id", None), shared, path.name)
+
     def test_bound_names(self):
         for path, tree in trees():
             outer = imported(tree) + [node.name for node in tree.body if isinstance(node, ast.ClassDef)]

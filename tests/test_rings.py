@@ -4,7 +4,8 @@ from mowfloor.rings import next_round, ring, ring_turns
 from mowfloor.trees import some_tree
 from mowfloor.walks import is_walk, turns
 from tests.samples import (
-    RING, all_trees, block_fields, drawn_block_fields, drawn_text, drawn_tree, is_plain, of_blocks, rectangle, steps_by_words,
+    RING, all_trees, block_fields, drawn_block_fields, drawn_text, drawn_tree, is_plain, of_blocks, rectangle,
+    steps_by_words,
 )
 
 

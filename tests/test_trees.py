@@ -5,7 +5,8 @@ import unittest
 from mowfloor.errors import MowError, NoBlocks
 from mowfloor.trees import is_tree, some_tree
 from tests.samples import (
-    HOLES, RING, Thorny, all_trees, block_fields, branches_by_words, comb, drawn_block_fields, drawn_tree, hang_together,
+    HOLES, RING, Thorny, all_trees, block_fields, branches_by_words, comb, drawn_block_fields, drawn_tree,
+    hang_together,
     is_plain, junk, nested, of_blocks, rectangle, same,
 )
 
